@@ -1,0 +1,164 @@
+package space
+
+import (
+	"slices"
+	"strings"
+
+	"reach/api"
+	"reach/tern"
+)
+
+const (
+	none  = "none"
+	plus  = "+"
+	minus = "-"
+)
+
+// term stands for the headers that are in the cube and in none of the list.
+type term struct {
+	cube tern.Cube
+	less []tern.Cube
+}
+
+// formed is the space of these terms, in its form. It gives up if that is too great; it never is greater than what it is made of.
+func formed(bits int, lists ...[]term) Space {
+	var terms []term
+	for _, list := range lists {
+		for _, raw := range list {
+			if t, ok := raw.settled(); ok {
+				terms = append(terms, t)
+			}
+		}
+	}
+	terms = greatest(terms, term.coveredBy)
+	spend(size(terms), api.MaxCubes)
+	// What covers what does not hang on any order: so only what is left is brought into order.
+	for _, t := range terms {
+		slices.SortFunc(t.less, byText)
+	}
+	slices.SortFunc(terms, byTexts)
+	return Space{bits, terms}
+}
+
+// settled is the term in its form, but for the order of its list, which is new memory; false, if the term is void.
+func (t term) settled() (term, bool) {
+	var less []tern.Cube
+	for _, m := range t.less {
+		both, ok := m.Meet(t.cube)
+		if !ok {
+			continue
+		}
+		if both == t.cube {
+			return term{}, false
+		}
+		less = append(less, both)
+	}
+	return term{t.cube, greatest(less, tern.Cube.Within)}, true
+}
+
+// coveredBy tells whether the cubes alone show that every header of t is one of u.
+func (t term) coveredBy(u term) bool {
+	if !t.cube.Within(u.cube) {
+		return false
+	}
+	for _, n := range u.less {
+		both, ok := n.Meet(t.cube)
+		if ok && !slices.ContainsFunc(t.less, both.Within) {
+			return false
+		}
+	}
+	return true
+}
+
+// has tells whether a header is in the term.
+func (t term) has(header string) bool {
+	if !t.cube.Has(header) {
+		return false
+	}
+	for _, m := range t.less {
+		if m.Has(header) {
+			return false
+		}
+	}
+	return true
+}
+
+// greatest are those of the list that are within no other one, of equal ones the first; within is an order, though not a total one. The answer is new memory.
+func greatest[T any](list []T, within func(a, b T) bool) []T {
+	var top []T
+	for _, x := range list {
+		if slices.ContainsFunc(top, func(y T) bool { return within(x, y) }) {
+			continue
+		}
+		top = slices.DeleteFunc(top, func(y T) bool { return within(y, x) })
+		top = append(top, x)
+	}
+	return top
+}
+
+// byText is the order of cubes: that of their texts as bytes.
+func byText(a, b tern.Cube) int {
+	return strings.Compare(a.Text(), b.Text())
+}
+
+// byTexts is the order of terms: that of their cubes, and then of their lists.
+func byTexts(a, b term) int {
+	if order := byText(a.cube, b.cube); order != 0 {
+		return order
+	}
+	return slices.CompareFunc(a.less, b.less, byText)
+}
+
+// size is the number of cubes of the terms, those of the lists too.
+func size(terms []term) int {
+	cubes := 0
+	for _, t := range terms {
+		cubes += 1 + len(t.less)
+	}
+	return cubes
+}
+
+// width is the number of a cube's bits.
+func width(c tern.Cube) int { return len(c.Text()) }
+
+// joined is a new list: what is appended to one that spaces share could be seen in another space.
+func joined(less []tern.Cube, more ...tern.Cube) []tern.Cube {
+	return slices.Concat(less, more)
+}
+
+// allBefore are the cubes of the headers that r writes into those of the list, where there are any.
+func allBefore(list []tern.Cube, r tern.Cube) []tern.Cube {
+	var origins []tern.Cube
+	for _, m := range list {
+		if origin, ok := m.Before(r); ok {
+			origins = append(origins, origin)
+		}
+	}
+	return origins
+}
+
+// readTerms reads the terms of a text as they are written; false, if it is no text of terms of that width.
+func readTerms(bits int, text string) ([]term, bool) {
+	var terms []term
+	for part := range strings.SplitSeq(text, plus) {
+		cubes, ok := readCubes(bits, part)
+		if !ok {
+			return nil, false
+		}
+		terms = append(terms, term{cubes[0], cubes[1:]})
+	}
+	return terms, true
+}
+
+// readCubes reads the cubes of one term, at least one.
+func readCubes(bits int, text string) ([]tern.Cube, bool) {
+	var cubes []tern.Cube
+	for part := range strings.SplitSeq(text, minus) {
+		c, errno := tern.Parse(part)
+		if errno != api.OK || len(part) != bits {
+			return nil, false
+		}
+		cubes = append(cubes, c)
+	}
+	return cubes, true
+}
