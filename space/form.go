@@ -21,23 +21,31 @@ type term struct {
 }
 
 // formed is the space of these terms, in its form. It gives up if that is too great; it never is greater than what it is made of.
-func formed(bits int, lists ...[]term) Space {
+func formed(bits int, raw []term) Space {
 	var terms []term
-	for _, list := range lists {
-		for _, raw := range list {
-			if t, ok := raw.settled(); ok {
-				terms = append(terms, t)
-			}
+	for _, r := range raw {
+		if t, ok := r.settled(); ok {
+			terms = append(terms, t)
 		}
 	}
-	terms = greatest(terms, term.coveredBy)
-	spend(size(terms), api.MaxCubes)
-	// What covers what does not hang on any order: so only what is left is brought into order.
+	return inOrder(bits, topmost(terms))
+}
+
+// topmost are those of settled terms that no other one covers. It gives up if they have too many cubes.
+func topmost(terms []term) []term {
+	top := greatest(terms, term.coveredBy)
+	spend(size(top), api.MaxCubes)
+	return top
+}
+
+// inOrder is the space of terms that have their form but for the order. What covers what does not hang on any order: so only what is left in the end is brought into it.
+func inOrder(bits int, terms []term) Space {
+	var ordered []term
 	for _, t := range terms {
-		slices.SortFunc(t.less, byText)
+		ordered = append(ordered, term{t.cube, slices.SortedFunc(slices.Values(t.less), byText)})
 	}
-	slices.SortFunc(terms, byTexts)
-	return Space{bits, terms}
+	slices.SortFunc(ordered, byTexts)
+	return Space{bits, ordered}
 }
 
 // settled is the term in its form, but for the order of its list, which is new memory; false, if the term is void.
@@ -54,6 +62,40 @@ func (t term) settled() (term, bool) {
 		less = append(less, both)
 	}
 	return term{t.cube, greatest(less, tern.Cube.Within)}, true
+}
+
+// outside is a settled term with one cube more taken away; false, if it is void then. What is taken away already need not be held against itself again.
+func (t term) outside(m tern.Cube) (term, bool) {
+	both, ok := m.Meet(t.cube)
+	if !ok || slices.ContainsFunc(t.less, both.Within) {
+		return t, true
+	}
+	if both == t.cube {
+		return term{}, false
+	}
+	less := slices.DeleteFunc(slices.Clone(t.less), func(n tern.Cube) bool { return n.Within(both) })
+	return term{t.cube, append(less, both)}, true
+}
+
+// without are settled terms less one more: what is outside of its cube, and what lies in its list.
+func without(terms []term, away term) []term {
+	spend(len(terms)*(1+len(away.less)), api.MaxRaw)
+	var rest []term
+	for _, t := range terms {
+		if outside, ok := t.outside(away.cube); ok {
+			rest = append(rest, outside)
+		}
+		for _, n := range away.less {
+			both, meet := t.cube.Meet(n)
+			if !meet {
+				continue
+			}
+			if inside, ok := (term{both, t.less}).settled(); ok {
+				rest = append(rest, inside)
+			}
+		}
+	}
+	return topmost(rest)
 }
 
 // coveredBy tells whether the cubes alone show that every header of t is one of u.
