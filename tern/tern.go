@@ -36,9 +36,10 @@ func Parse(text string) (Cube, api.Errno) {
 		word, bit := spot(place)
 		switch text[place] {
 		case '0':
-			c = c.fix(word, bit, 0)
+			c.fixed[word] |= bit
 		case '1':
-			c = c.fix(word, bit, bit)
+			c.fixed[word] |= bit
+			c.ones[word] |= bit
 		case 'x':
 		default:
 			return Cube{}, api.ErrCube
