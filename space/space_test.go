@@ -371,6 +371,31 @@ func TestJoinCounts(t *testing.T) {
 	same(t, "128 in one", all, e, form(8, raw("0xxxxxxx")), api.OK)
 }
 
+// P2.6: all headers leave a space as it is, from either side; all but one do not.
+func TestMeetWithAllHeaders(t *testing.T) {
+	eachPair(t, func(a, _ space.Space, m, _ told, _ *source) {
+		all, most := x(m.bits), x(m.bits)+"-"+strings.Repeat("1", m.bits)
+		for _, text := range []string{all, most} {
+			other := read(t, m.bits, text)
+			want, wantE := m.meet(form(m.bits, raw(text)))
+			s, e := a.Meet(other)
+			same(t, a.Text()+" Meet "+text, s, e, want, wantE)
+			s, e = other.Meet(a)
+			same(t, text+" Meet "+a.Text(), s, e, want, wantE)
+		}
+	})
+	for _, text := range []string{numbers(0, 128, 8, "", "+"), "xxxxxxxx-" + numbers(0, 127, 8, "", "-"), "none", x(8)} {
+		s, e := read(t, 8, text).Meet(read(t, 8, x(8)))
+		same(t, "Meet all", s, e, form(8, raw(text)), api.OK)
+	}
+	for _, other := range []space.Space{{}, space.None(7), read(t, 9, x(9)), read(t, 9, "none")} {
+		s, e := read(t, 8, x(8)).Meet(other)
+		refused(t, "all Meet another width", s, e, api.ErrWidth)
+		s, e = other.Meet(read(t, 8, x(8)))
+		refused(t, "another width Meet all", s, e, api.ErrWidth)
+	}
+}
+
 // P2.6: what counts is the number of pairs, whether they meet or not; behind the form, the size.
 func TestMeetCounts(t *testing.T) {
 	list := func(from, n int) space.Space {

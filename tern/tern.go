@@ -84,17 +84,12 @@ func (c Cube) Meet(d Cube) (Cube, bool) {
 	if !c.agrees(d) {
 		return Cube{}, false
 	}
-	for w := range words {
-		c.fixed[w] |= d.fixed[w]
-		c.ones[w] |= d.ones[w]
-	}
-	return c, true
+	return c.common(d), true
 }
 
 // Within tells whether all of c is in d.
 func (c Cube) Within(d Cube) bool {
-	common, ok := c.Meet(d)
-	return ok && common == c
+	return c.agrees(d) && c.common(d) == c
 }
 
 // Split is c without d, as cubes of which no two meet.
@@ -209,6 +204,15 @@ func (c Cube) agrees(d Cube) bool {
 		}
 	}
 	return true
+}
+
+// common is what two cubes that agree have in common.
+func (c Cube) common(d Cube) Cube {
+	for w := range words {
+		c.fixed[w] |= d.fixed[w]
+		c.ones[w] |= d.ones[w]
+	}
+	return c
 }
 
 // fix is c with the digit that digits has at the bit, at a place where c has x.
