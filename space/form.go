@@ -24,7 +24,7 @@ type term struct {
 func formed(bits int, raw []term) Space {
 	var terms []term
 	for _, r := range raw {
-		if t, ok := r.settled(); ok {
+		if t, ok := settled(r.cube, r.less); ok {
 			terms = append(terms, t)
 		}
 	}
@@ -40,28 +40,71 @@ func topmost(terms []term) []term {
 
 // inOrder is the space of terms that have their form but for the order. What covers what does not hang on any order: so only what is left in the end is brought into it.
 func inOrder(bits int, terms []term) Space {
-	var ordered []term
+	var lines [][]named
 	for _, t := range terms {
-		ordered = append(ordered, term{t.cube, slices.SortedFunc(slices.Values(t.less), byText)})
+		lines = append(lines, inLine(t))
 	}
-	slices.SortFunc(ordered, byTexts)
-	return Space{bits, ordered}
+	slices.SortFunc(lines, func(a, b []named) int { return slices.CompareFunc(a, b, byText) })
+	var ordered []term
+	for _, l := range lines {
+		var less []tern.Cube
+		for _, m := range l[1:] {
+			less = append(less, m.cube)
+		}
+		ordered = append(ordered, term{l[0].cube, less})
+	}
+	return Space{bits: bits, terms: ordered}
 }
 
-// settled is the term in its form, but for the order of its list, which is new memory; false, if the term is void.
-func (t term) settled() (term, bool) {
-	var less []tern.Cube
+// named is a cube with its text, which is made once and not for every two that are compared.
+type named struct {
+	text string
+	cube tern.Cube
+}
+
+// inLine is a term's cube and behind it its list, in order.
+func inLine(t term) []named {
+	line := []named{{t.cube.Text(), t.cube}}
 	for _, m := range t.less {
-		both, ok := m.Meet(t.cube)
-		if !ok {
-			continue
-		}
-		if both == t.cube {
-			return term{}, false
-		}
-		less = append(less, both)
+		line = append(line, named{m.Text(), m})
 	}
-	return term{t.cube, greatest(less, tern.Cube.Within)}, true
+	slices.SortFunc(line[1:], byText)
+	return line
+}
+
+// settled is the term of a cube less the cubes of the lists, in its form, but for the order of its list, which is new memory; false, if the term is void.
+func settled(cube tern.Cube, lists ...[]tern.Cube) (term, bool) {
+	var less []tern.Cube
+	for _, list := range lists {
+		for _, m := range list {
+			both, ok := m.Meet(cube)
+			if !ok {
+				continue
+			}
+			if both == cube {
+				return term{}, false
+			}
+			less = append(less, both)
+		}
+	}
+	return term{cube, greatest(less, tern.Cube.Within)}, true
+}
+
+// allCommon are what each two of the terms have in common, settled.
+func allCommon(terms, others []term) []term {
+	var common []term
+	for _, a := range terms {
+		for _, b := range others {
+			both, meet := a.cube.Meet(b.cube)
+			if !meet {
+				continue
+			}
+			if t, ok := settled(both, a.less, b.less); ok {
+				common = append(common, t)
+			}
+		}
+	}
+	return common
 }
 
 // outside is a settled term with one cube more taken away; false, if it is void then. What is taken away already need not be held against itself again.
@@ -90,7 +133,7 @@ func without(terms []term, away term) []term {
 			if !meet {
 				continue
 			}
-			if inside, ok := (term{both, t.less}).settled(); ok {
+			if inside, ok := settled(both, t.less); ok {
 				rest = append(rest, inside)
 			}
 		}
@@ -139,16 +182,8 @@ func greatest[T any](list []T, within func(a, b T) bool) []T {
 }
 
 // byText is the order of cubes: that of their texts as bytes.
-func byText(a, b tern.Cube) int {
-	return strings.Compare(a.Text(), b.Text())
-}
-
-// byTexts is the order of terms: that of their cubes, and then of their lists.
-func byTexts(a, b term) int {
-	if order := byText(a.cube, b.cube); order != 0 {
-		return order
-	}
-	return slices.CompareFunc(a.less, b.less, byText)
+func byText(a, b named) int {
+	return strings.Compare(a.text, b.text)
 }
 
 // size is the number of cubes of the terms, those of the lists too.
@@ -163,14 +198,9 @@ func size(terms []term) int {
 // width is the number of a cube's bits.
 func width(c tern.Cube) int { return len(c.Text()) }
 
-// joined is a new list: what is appended to one that spaces share could be seen in another space.
-func joined(less []tern.Cube, more ...tern.Cube) []tern.Cube {
-	return slices.Concat(less, more)
-}
-
 // allBefore are the cubes of the headers that r writes into those of the list, where there are any.
 func allBefore(list []tern.Cube, r tern.Cube) []tern.Cube {
-	var origins []tern.Cube
+	origins := make([]tern.Cube, 0, len(list))
 	for _, m := range list {
 		if origin, ok := m.Before(r); ok {
 			origins = append(origins, origin)

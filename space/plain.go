@@ -35,7 +35,7 @@ func give[T any](work func() T) (answer T, errno api.Errno) {
 func (s Space) plain(limit int) iter.Seq[tern.Cube] {
 	return func(yield func(tern.Cube) bool) {
 		finished := 0
-		for _, t := range s.terms {
+		for _, t := range s.inForm().terms {
 			w := walk{limit - finished, make([]int, 1+len(t.less)), yield}
 			if !w.down(t.cube, t.less) {
 				return

@@ -494,6 +494,104 @@ func TestOneSpace(t *testing.T) {
 	}
 }
 
+// P2.8: what Before answers is a space like any other: every call of it, and with it, answers what is told.
+func TestSpacesOfBefore(t *testing.T) {
+	budget := 0
+	eachPair(t, func(a, b space.Space, m, n told, from *source) {
+		word, again, limit := from.cube(m.bits, "01x"+x(from.below(m.bits))), from.cube(m.bits, "01xxx"), from.below(60)
+		s, _ := a.Before(cubeOf(word))
+		was := m.before(word)
+		both := was.text() + ", " + n.text()
+		check := func(call string, s space.Space, e api.Errno, want told, wantE api.Errno) {
+			t.Helper()
+			if same(t, call+" "+both, s, e, want, wantE); e == api.ErrBudget {
+				budget++
+			}
+		}
+		got, e := s.Meet(b)
+		want, wantE := was.meet(n)
+		check("Meet", got, e, want, wantE)
+		got, e = b.Meet(s)
+		check("Meet by the other", got, e, want, wantE)
+		got, e = s.Join(b)
+		want, wantE = was.join(n)
+		check("Join", got, e, want, wantE)
+		got, e = b.Join(s)
+		check("Join by the other", got, e, want, wantE)
+		got, e = s.Minus(b)
+		want, wantE = was.minus(n)
+		check("Minus", got, e, want, wantE)
+		got, e = b.Minus(s)
+		want, wantE = n.minus(was)
+		check("Minus by the other", got, e, want, wantE)
+		got, e = s.Before(cubeOf(again))
+		check("Before", got, e, was.before(again), api.OK)
+		got, e = s.After(cubeOf(again), limit)
+		want, wantE = was.after(again, limit)
+		check("After", got, e, want, wantE)
+		cubes, e := s.Expand(limit)
+		if wantCubes, wantE := was.expand(limit); e != wantE || texts(cubes) != strings.Join(wantCubes, " ") {
+			t.Fatalf("%q Expand(%d) = %q, %d, want %q, %d", was.text(), limit, texts(cubes), e, wantCubes, wantE)
+		}
+		h, some, e := s.Least(limit)
+		if wantH, wantSome, wantE := was.least(limit); h != wantH || some != wantSome || e != wantE {
+			t.Fatalf("%q Least(%d) = %q, %v, %d", was.text(), limit, h, some, e)
+		}
+		in, e := s.Within(b, limit)
+		if wantIn, wantE := was.within(n, limit); in != wantIn || e != wantE {
+			t.Fatalf("Within %s %d = %v, %d", both, limit, in, e)
+		}
+		if wantCubes, wantE := was.expand(api.MaxSplit); wantE == api.OK && texts(slices.Collect(s.Cubes())) != strings.Join(wantCubes, " ") {
+			t.Fatalf("%q Cubes", was.text())
+		}
+		same(t, "left as it was", s, api.OK, was, api.OK)
+		same(t, "left as it was", a, api.OK, m, api.OK)
+	})
+	if budget == 0 {
+		t.Error("never passed a limit: the trial shows less than it should")
+	}
+}
+
+// P2.6, P2.8: what counts for a Meet is the terms that Before leaves in the form, not those that they come from.
+func TestMeetCountsWhatBeforeLeaves(t *testing.T) {
+	// Two cubes for each number, which are one where the last two bits are written.
+	pairs := func(n int) space.Space {
+		s, e := read(t, 8, numbers(0, n, 6, "0x", "+")+"+"+numbers(0, n, 6, "x0", "+")).Before(cubeOf("xxxxxx00"))
+		if e != api.OK {
+			t.Fatalf("Before = %d", e)
+		}
+		return s
+	}
+	many := read(t, 8, numbers(0, 64, 8, "", "+"))
+	for _, c := range []struct {
+		s    space.Space
+		size int
+		want api.Errno
+	}{{pairs(16), 16, api.OK}, {pairs(17), 17, api.OK}, {pairs(32), 32, api.OK}, {pairs(33), 33, api.ErrBudget}, {pairs(64), 64, api.ErrBudget}} {
+		if c.s.Size() != c.size {
+			t.Fatalf("P2.8: size %d, want %d", c.s.Size(), c.size)
+		}
+		if s, e := c.s.Meet(many); e != c.want || e != api.OK && s.Size() != 0 {
+			t.Errorf("P2.6: %d terms Meet 64: %d", c.size, e)
+		}
+		if s, e := many.Meet(c.s); e != c.want || e != api.OK && s.Size() != 0 {
+			t.Errorf("P2.6: 64 terms Meet %d: %d", c.size, e)
+		}
+	}
+}
+
+// P2.8: the word that writes nothing leaves a space as it is; of another width it is refused all the same.
+func TestBeforeByNothing(t *testing.T) {
+	eachPair(t, func(a, _ space.Space, m, _ told, _ *source) {
+		s, e := a.Before(tern.All(m.bits))
+		same(t, "Before by nothing", s, e, m, api.OK)
+	})
+	for _, bits := range []int{0, 7, 9} {
+		s, e := read(t, 8, "xxxxxxxx-1xxxxxxx").Before(tern.All(bits))
+		refused(t, "Before by nothing", s, e, api.ErrWidth)
+	}
+}
+
 // P2.10: every limit of some spaces; it may be passed on the way and not in the end.
 func TestExpandAtEveryLimit(t *testing.T) {
 	for _, c := range []struct {
