@@ -89,6 +89,12 @@ func (c Cube) Meet(d Cube) (Cube, bool) {
 
 // Within tells whether all of c is in d.
 func (c Cube) Within(d Cube) bool {
+	for w := range words {
+		// Most cubes show by their places alone that they are not, and a table is made of very many such questions.
+		if d.fixed[w]&^c.fixed[w] != 0 {
+			return false
+		}
+	}
 	return c.agrees(d) && c.common(d) == c
 }
 
